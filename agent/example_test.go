@@ -112,6 +112,13 @@ func TestAMachineAndAStore(t *testing.T) {
 	if w.running(1)+w.running(2) != 2 || w.s.Deploys[0].State != api.DeployDone || len(w.s.Stable) != 1 || w.s.Stable[0].Version != 1 {
 		t.Fatalf("there run %d and %d; the deployments %+v, stable %+v", w.running(1), w.running(2), w.s.Deploys, w.s.Stable)
 	}
+	for _, m := range w.machines {
+		for _, x := range m.Running() {
+			if x.State != allocNew {
+				t.Fatalf("there runs %+v, which was told first when it was new", x)
+			}
+		}
+	}
 	w.does(api.Cmd{Op: api.CmdCancel, Job: api.Job{ID: 1}})
 	for range 5 {
 		w.works()

@@ -34,7 +34,7 @@ func newWatch(t *testing.T, dice *rand.Rand, d *disk.Disk, old *watch) *watch {
 	return w
 }
 
-// looks holds P17.5: what runs, runs under its epoch, and ahead of the end of a lease: of its registration's, or of a beat's that was answered.
+// looks holds P17.5: what runs, runs under its epoch, and ahead of the end of a lease: of its registration's, or of a beat's that was answered; and it is as it was told, its State too.
 func (w *watch) looks() {
 	w.Helper()
 	if now := w.Epoch(); now != w.under {
@@ -54,7 +54,7 @@ func (w *watch) looks() {
 		leased = leased || w.clock <= tick+tickLease
 	}
 	for _, x := range all {
-		if !leased || x.Epoch != w.under || x.Node != w.id || x.State != allocRunning {
+		if !leased || x.Epoch != w.under || x.Node != w.id || x.State != x.ID {
 			w.Fatalf("at the tick %d, registered under %d since %d, beats answered of %v, there runs %+v", w.clock, w.under, w.since, w.takes, x)
 		}
 	}
@@ -125,7 +125,7 @@ func (w *watch) anyAllocs(epoch int) []api.Alloc {
 	var out []api.Alloc
 	for id := range 8 {
 		if w.dice.Intn(3) > 0 {
-			x := api.Alloc{ID: id, Node: 2, Epoch: epoch, Stop: w.dice.Intn(5) == 0}
+			x := api.Alloc{ID: id, Node: 2, Epoch: epoch, Stop: w.dice.Intn(5) == 0, State: id}
 			if w.dice.Intn(9) == 0 {
 				x.Epoch--
 			}

@@ -3,7 +3,6 @@ package agent_test
 import (
 	"math"
 	"reflect"
-	"slices"
 	"strconv"
 	"testing"
 
@@ -157,14 +156,10 @@ func (m machine) has(epoch int) {
 	}
 }
 
-// runs holds it to what runs, in this order; the state is said here.
+// runs holds it to what runs, in this order, each as it was told first.
 func (m machine) runs(want ...api.Alloc) {
 	m.Helper()
-	want = slices.Clone(want)
-	for i := range want {
-		want[i].State = allocRunning
-	}
-	if got := m.Running(); !alike(got, want) {
+	if got := m.Running(); !alike(got, append([]api.Alloc(nil), want...)) {
 		m.Fatalf("there run %+v, not %+v", got, want)
 	}
 }

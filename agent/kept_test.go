@@ -66,9 +66,6 @@ func TestAnswersAreTheCallersOwn(t *testing.T) {
 		first[:cap(first)][i] = api.Alloc{ID: 99}
 	}
 	m.runs(want...)
-	for i := range want {
-		want[i].State = allocRunning
-	}
 	if !alike(second, want) {
 		t.Fatalf("the second answer is %+v", second)
 	}

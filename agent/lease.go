@@ -55,27 +55,3 @@ func (a *Agent) renew(beat int, told []api.Alloc) {
 		a.run(told)
 	}
 }
-
-// run runs what it is told, and forgets what it is not told any more. Each task is worked out from those of before, so of two of one ID the last counts.
-func (a *Agent) run(told []api.Alloc) {
-	now := map[int]api.Alloc{}
-	for _, x := range told {
-		if x.Node == a.id && x.Epoch == a.epoch {
-			now[x.ID] = a.task(x)
-		}
-	}
-	a.tasks = now
-}
-
-// task is what becomes of an allocation that is told: what it knows stays as it was told first, but for its state.
-func (a *Agent) task(told api.Alloc) api.Alloc {
-	task, ok := a.tasks[told.ID]
-	if !ok {
-		task = told
-		task.State = api.AllocRunning
-	}
-	if told.Stop && task.State == api.AllocRunning {
-		task.State = api.AllocEnded
-	}
-	return task
-}

@@ -33,7 +33,7 @@ func (a *Agent) reports() []api.Report {
 		if len(out) == api.MaxReports {
 			break
 		}
-		out = append(out, api.Report{Alloc: id, State: a.tasks[id].State})
+		out = append(out, api.Report{Alloc: id, State: a.tasks[id].state})
 	}
 	return out
 }

@@ -25,8 +25,14 @@ type model struct {
 	beats          []int // the tick of each beat of this epoch
 	taken          []int // the beats that were taken
 	registeredAt   int
-	tasks          []api.Alloc // in any order
+	tasks          []modelTask // in any order
 	ends, renewals int         // for the tests' own count
+}
+
+// modelTask is an allocation as it was told first, and its state beside it.
+type modelTask struct {
+	alloc api.Alloc
+	state int
 }
 
 // numberOf is the number that a text is, from least to most; told without asking what reads numbers.
@@ -118,10 +124,10 @@ func (m *model) tick() ([]api.Msg, api.Errno) {
 }
 
 func (m *model) reports() []api.Report {
-	slices.SortFunc(m.tasks, func(a, b api.Alloc) int { return cmp.Compare(a.ID, b.ID) })
+	slices.SortFunc(m.tasks, func(a, b modelTask) int { return cmp.Compare(a.alloc.ID, b.alloc.ID) })
 	var out []api.Report
 	for _, x := range m.tasks[:min(len(m.tasks), maxReports)] {
-		out = append(out, report(x.ID, x.State))
+		out = append(out, report(x.alloc.ID, x.state))
 	}
 	return out
 }
@@ -154,36 +160,33 @@ func (m *model) take(x api.Msg) api.Errno {
 
 // told goes through what is told from its end, so the last of an ID is met first.
 func (m *model) told(allocs []api.Alloc) {
-	var now []api.Alloc
+	var now []modelTask
 	for i := len(allocs) - 1; i >= 0; i-- {
 		x := allocs[i]
-		if x.Node != m.id || x.Epoch != m.epoch || slices.ContainsFunc(now, func(y api.Alloc) bool { return y.ID == x.ID }) {
+		same := func(y modelTask) bool { return y.alloc.ID == x.ID }
+		if x.Node != m.id || x.Epoch != m.epoch || slices.ContainsFunc(now, same) {
 			continue
 		}
-		known := slices.IndexFunc(m.tasks, func(y api.Alloc) bool { return y.ID == x.ID })
-		switch {
+		switch known := slices.IndexFunc(m.tasks, same); {
 		case known < 0 && !x.Stop:
-			x.State = allocRunning
+			now = append(now, modelTask{x, allocRunning})
 		case known < 0:
-			x.State = allocEnded
+			now = append(now, modelTask{x, allocEnded})
+		case x.Stop && m.tasks[known].state < allocDone:
+			now = append(now, modelTask{m.tasks[known].alloc, allocEnded})
 		default:
-			stop := x.Stop
-			x = m.tasks[known]
-			if stop && x.State < allocDone {
-				x.State = allocEnded
-			}
+			now = append(now, m.tasks[known])
 		}
-		now = append(now, x)
 	}
 	m.tasks = now
 }
 
 func (m *model) exit(id int, failed bool) bool {
 	for i, x := range m.tasks {
-		if x.ID == id && x.State == allocRunning {
-			m.tasks[i].State = allocDone
+		if x.alloc.ID == id && x.state == allocRunning {
+			m.tasks[i].state = allocDone
 			if failed {
-				m.tasks[i].State = allocFailed
+				m.tasks[i].state = allocFailed
 			}
 			return true
 		}
@@ -194,8 +197,8 @@ func (m *model) exit(id int, failed bool) bool {
 func (m *model) running() []api.Alloc {
 	var out []api.Alloc
 	for _, x := range m.tasks {
-		if x.State == allocRunning {
-			out = append(out, x)
+		if x.state == allocRunning {
+			out = append(out, x.alloc)
 		}
 	}
 	slices.SortFunc(out, func(a, b api.Alloc) int { return cmp.Compare(a.ID, b.ID) })
@@ -321,7 +324,7 @@ func (r *run) anyAllocs(epoch int) []api.Alloc {
 	often := 1 + r.dice.Intn(10)
 	for id := range r.ids {
 		for r.dice.Intn(11) < often {
-			x := api.Alloc{ID: id, Job: r.dice.Intn(3), Node: r.id, Epoch: epoch, Stop: r.dice.Intn(6) == 0, State: 1 + r.dice.Intn(2)}
+			x := api.Alloc{ID: id, Job: r.dice.Intn(3), Node: r.id, Epoch: epoch, Stop: r.dice.Intn(6) == 0, State: r.dice.Intn(8)}
 			if r.dice.Intn(20) == 0 {
 				x.Node = r.dice.Intn(5)
 			}

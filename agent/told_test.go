@@ -141,6 +141,51 @@ func TestToldOtherwise(t *testing.T) {
 	x.runs(other)
 }
 
+// P17.3, P17.4: the State that the store tells is the allocation's, and stays in what Running tells as it was told first, be it one of a task that is new, that runs, that is over, or none at all; by its own state beside it a task runs, is reported, and is over. What it knows stays so, whatever State is told of it later; what it forgot is told first once more.
+func TestTheStateThatIsTold(t *testing.T) {
+	states := append(farNumbers(), allocFailed, 6, 7)
+	for i, state := range states {
+		x := told(t)
+		stays, exits, fails, stops := x.task(6, 5), x.task(7, 5), x.task(8, 5), x.task(9, 5)
+		for _, one := range []*api.Alloc{&stays, &exits, &fails, &stops} {
+			one.State = state
+		}
+		x.tell(stays, exits, fails, stops)
+		x.runs(stays, exits, fails, stops)
+		x.knows(report(6, allocRunning), report(7, allocRunning), report(8, allocRunning), report(9, allocRunning))
+
+		again := []api.Alloc{stays, exits, fails, stopped(stops)}
+		for j := range again {
+			again[j].State = states[(i+1+j)%len(states)]
+		}
+		if !x.Exit(7, false) || !x.Exit(8, true) {
+			t.Fatalf("told with the State %d a task did not end", state)
+		}
+		x.runs(stays, stops)
+		x.tell(again...)
+		x.runs(stays)
+		x.knows(report(6, allocRunning), report(7, allocDone), report(8, allocFailed), report(9, allocEnded))
+
+		x.tell()
+		x.tell(again...)
+		x.runs(again[:3]...)
+		x.knows(report(6, allocRunning), report(7, allocRunning), report(8, allocRunning), report(9, allocEnded))
+	}
+}
+
+// P17.3: of two of one ID that are told first, the last one's State is what Running tells.
+func TestTheStateOfTwoOfOneID(t *testing.T) {
+	for state := range 8 {
+		x := told(t)
+		first, last := x.task(7, 5), x.task(7, 5)
+		first.State, last.State = state, 7-state
+		x.tell(first, last)
+		x.runs(last)
+		x.tell(last, first)
+		x.runs(last)
+	}
+}
+
 // P17.3: what is known and is not told is forgotten, over or not; it runs again, if it is told again.
 func TestNotToldAnyMore(t *testing.T) {
 	x := told(t)
